@@ -74,6 +74,7 @@ func TestHashOfTheChapter(t *testing.T) {
 	}
 }
 
+// The first four are published; the others are another library's.
 func TestHashesThatArePublished(t *testing.T) {
 	for _, c := range []struct {
 		pass, salt string
